@@ -1,0 +1,1 @@
+"""Stretchdeeds: rows of values, asked and changed by whole stretches."""
