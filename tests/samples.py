@@ -71,3 +71,37 @@ def shaken(chance, thing, names):
     if isinstance(thing, tuple):
         odd = odd + [list(thing), thing + (ZERO,), thing[:-1], ("add", thing, thing)]
     return chance.choice(odd + [("name", letter) for letter in names])
+
+
+class Unasked:
+    """A thing that can be neither compared nor looked up nor counted."""
+
+    def __eq__(self, other):
+        raise RuntimeError("compared")
+
+    def __hash__(self):
+        raise RuntimeError("looked up")
+
+    def __len__(self):
+        raise RuntimeError("counted")
+
+    def __lt__(self, other):
+        raise RuntimeError("compared")
+
+    __le__ = __gt__ = __ge__ = __lt__
+
+
+def nested(deep):
+    as_list, as_tuple, as_dict = [], (), {}
+    for _ in range(deep):
+        as_list, as_tuple, as_dict = [as_list], (as_tuple,), {"a": as_dict}
+    return [as_list, as_tuple, as_dict]
+
+
+ODD = [
+    None, True, False, -1, 0, 1, 2, 5, 6, 7, 8, 9, -(10 ** 60), 10 ** 60, 10 ** 3000, 1.0, float("nan"), 1j, "", "0", "1",
+    "a", "up", "abcdefgh", "abcdefghi", "Up", "u p", "up\n", "a1", "_", "\u00e9", "\u00df", "\u03b1", b"a", (), [], {},
+    set(), frozenset([1]), {0: 0}, range(2), [0], [0, 1], [1, 0], [0, 0], [[0]], (0,), (0, 1), ((0,),), ("a", []), ["a", []],
+    ("a",), ("a", [], []), ("a", [0]), ("a", [[0]]), ([], "a"), object(), int, len, Unasked(), ["a"] * 2000, [[]] * 1000,
+    (0,) * 2000, [0] * 2000, "a" * 2000,
+] + nested(59)

@@ -165,6 +165,33 @@ class TreeTest(unittest.TestCase):
                 if isinstance(node, ast.Call) and isinstance(node.func, ast.Attribute):
                     self.assertIn(node.func.attr, METHODS + own, (name, node.lineno))
 
+    def test_methods_and_values_of_objects_have_names_of_their_own(self):
+        methods, values = set(), set()
+        for name, tree in trees():
+            for node in ast.walk(tree):
+                if isinstance(node, ast.ClassDef):
+                    told = [row.name for row in node.body if isinstance(row, ast.FunctionDef)]
+                    self.assertEqual(len(told), len(set(told)), (name, node.name))
+                    methods |= set(told)
+                if isinstance(node, ast.Attribute) and isinstance(node.ctx, ast.Store):
+                    values.add(node.attr)
+        python_own = set()
+        for kind in (str, int, list, tuple, dict, set, bytes):
+            python_own |= set(dir(kind))
+        self.assertEqual(values & (methods | python_own), set())
+        self.assertLessEqual(methods & python_own, set(METHODS + ["add", "discard"] + UNDERSCORED))
+
+    def test_no_local_is_called_like_an_import_or_a_class(self):
+        for name, tree in trees():
+            told = [node.name for node in tree.body if isinstance(node, ast.ClassDef)]
+            for row in tree.body:
+                told += [alias.name for alias in row.names] if isinstance(row, ast.ImportFrom) else []
+            for node in ast.walk(tree):
+                if isinstance(node, ast.arg):
+                    self.assertNotIn(node.arg, told, (name, node.lineno))
+                if isinstance(node, ast.Name) and isinstance(node.ctx, ast.Store):
+                    self.assertNotIn(node.id, told, (name, node.lineno))
+
     def test_assignments_and_powers(self):
         for name, tree in trees():
             for node in ast.walk(tree):

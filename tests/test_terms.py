@@ -2,7 +2,7 @@ import random
 import unittest
 
 from stretchdeeds.terms import is_term, worth
-from tests.samples import ALL, PAIRS, ZERO, depth, leaning, shaken, size, some_terms, wide
+from tests.samples import ALL, PAIRS, ZERO, Unasked, depth, leaning, shaken, size, some_terms, wide
 
 A = ("name", "a")
 B = ("name", "b")
@@ -24,19 +24,6 @@ def well_formed(thing, names):
         return len(thing) == 2 and type(thing[1]) is str and thing[1] in [x for x in names if x in ALL]
     many = {"same": 5}.get(thing[0], 3 if thing[0] in PAIRS else None)
     return len(thing) == many and all(well_formed(part, names) for part in thing[1:])
-
-
-class Unasked:
-    """A thing that can be neither compared nor looked up nor counted."""
-
-    def __eq__(self, other):
-        raise RuntimeError("compared")
-
-    def __hash__(self):
-        raise RuntimeError("looked up")
-
-    def __len__(self):
-        raise RuntimeError("counted")
 
 
 class IsTermTest(unittest.TestCase):
