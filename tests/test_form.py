@@ -206,6 +206,33 @@ class TreeTest(unittest.TestCase):
                 if isinstance(node, ast.FormattedValue):
                     self.assertIsInstance(node.value, ast.Name, (name, node.lineno))
 
+    def test_walked_at_once(self):
+        walked = ["zip", "enumerate", "reversed", "range", "items", "keys", "values"]
+        takers = ["list", "tuple", "dict", "sorted", "sum", "any", "all", "enumerate", "zip", "min", "max"]
+        for name, tree in trees():
+            at_once = []
+            for node in ast.walk(tree):
+                if isinstance(node, (ast.For, ast.comprehension)):
+                    at_once.append(node.iter)
+                if isinstance(node, ast.Call) and isinstance(node.func, ast.Name) and node.func.id in takers:
+                    at_once += node.args[:1]
+            for node in ast.walk(tree):
+                if isinstance(node, ast.Call) and getattr(node.func, "id", getattr(node.func, "attr", "")) in walked:
+                    self.assertIn(node, at_once, (name, node.lineno))
+
+    def test_keywords(self):
+        allowed = {
+            "sorted": ["key", "reverse"], "min": ["key", "default"], "max": ["key", "default"], "sum": ["start"],
+            "enumerate": ["start"], "zip": ["strict"],
+        }
+        for name, tree in trees():
+            for node in ast.walk(tree):
+                if isinstance(node, ast.Call) and node.keywords:
+                    self.assertIsInstance(node.func, ast.Name, (name, node.lineno))
+                    if node.func.id in OWN_NAMES:
+                        told = [keyword.arg for keyword in node.keywords]
+                        self.assertLessEqual(set(told), set(allowed.get(node.func.id, [])), (name, node.lineno))
+
     def test_is_stands_beside_written_values(self):
         for name, tree in trees():
             for node in ast.walk(tree):
