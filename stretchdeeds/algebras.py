@@ -1,5 +1,6 @@
 """Algebras: what one is, tables by terms, whether one is let by, and what lists of values come to."""
 
+from stretchdeeds.errors import NotLetBy
 from stretchdeeds.terms import is_whole, worth
 
 MOST_VALUES = 8
@@ -120,6 +121,12 @@ def what_fails(algebra):
     if fault is None:
         fault = deeds_fail(algebra)
     return fault
+
+
+def check_let_by(algebra):
+    fault = what_fails(algebra)
+    if fault is not None:
+        raise NotLetBy(fault)
 
 
 def joined(algebra, row):

@@ -1,7 +1,6 @@
 """Ways of joining that are made of algebras."""
 
-from stretchdeeds.algebras import is_within, what_fails
-from stretchdeeds.errors import NotLetBy
+from stretchdeeds.algebras import check_let_by, is_within
 
 
 def firm(rows):
@@ -13,9 +12,7 @@ class Ways:
     # deeds went into it, it stays that small; and being a tuple, it can be kept in many places at once.
 
     def __init__(self, algebra):
-        fault = what_fails(algebra)
-        if fault is not None:
-            raise NotLetBy(fault)
+        check_let_by(algebra)
         self.size = algebra[0]
         self.around = algebra[1]
         self.table = firm(algebra[2])

@@ -18,6 +18,9 @@ METHODS = """append clear copy count endswith extend find get index insert isaln
     setdefault split splitlines startswith strip update upper values zfill bit_length __init__""".split()
 WORDS = """type typing typing_extensions enum Enum IntEnum StrEnum Flag IntFlag Generic Protocol ABC ABCMeta namedtuple
     NamedTuple TypedDict TYPE_CHECKING abstractmethod""".split()
+UNUSED = "register mro elements open input version_info with_traceback add_note format format_map".split()
+NO_NAMES = """attrgetter breakpoint builtins compile copyright credits delattr dir eval exec exit gc getattr globals hasattr
+    help id importlib license locals methodcaller os quit setattr super vars sys __name__ chr print""".split()
 UNDERSCORED = ["__init__", "__eq__", "__repr__", "__str__", "__len__"]
 
 
@@ -88,6 +91,17 @@ class TreeTest(unittest.TestCase):
                     if isinstance(node.value, str):
                         self.assertNotIn("%", node.value, (name, node.lineno))
 
+    def is_plain(self, value, functions, name):
+        """A plain value, or a list, a tuple or a dict of these and of functions above; no list or dict within it."""
+        inner = value.keys + value.values if isinstance(value, ast.Dict) else getattr(value, "elts", [])
+        for part in inner:
+            self.assertNotIsInstance(part, (ast.List, ast.Dict), (name, value.lineno))
+            self.is_plain(part, functions, name)
+        if isinstance(value, ast.Name):
+            self.assertIn(value.id, functions, (name, value.lineno))
+        elif not inner:
+            ast.literal_eval(value)
+
     def test_the_top_of_a_module(self):
         kinds = (ast.ImportFrom, ast.FunctionDef, ast.ClassDef, ast.Assign)
         for name, tree in trees():
@@ -98,7 +112,7 @@ class TreeTest(unittest.TestCase):
                 if isinstance(node, ast.Assign):
                     self.assertIsInstance(node.targets[0], ast.Name)
                     bound.append(node.targets[0].id)
-                    ast.literal_eval(node.value)
+                    self.is_plain(node.value, bound, name)
                 elif not isinstance(node, ast.ImportFrom):
                     bound.append(node.name)
             self.assertEqual(len(bound), len(set(bound)), name)
@@ -205,6 +219,70 @@ class TreeTest(unittest.TestCase):
                     self.assertLessEqual(len(node.generators[0].ifs), 1, (name, node.lineno))
                 if isinstance(node, ast.FormattedValue):
                     self.assertIsInstance(node.value, ast.Name, (name, node.lineno))
+
+    def test_lists_and_dicts_of_a_top_are_only_read(self):
+        for name, tree in trees():
+            kept = [
+                row.targets[0].id for row in tree.body
+                if isinstance(row, ast.Assign) and isinstance(row.value, (ast.List, ast.Dict))
+            ]
+            let = []
+            for node in ast.walk(tree):
+                if isinstance(node, ast.Subscript) and isinstance(node.ctx, ast.Load):
+                    let.append(node.value)
+                if isinstance(node, ast.Compare):
+                    let += node.comparators
+                if isinstance(node, (ast.For, ast.comprehension)):
+                    let.append(node.iter)
+                if isinstance(node, ast.Call) and getattr(node.func, "id", "") in ("len", "list", "dict"):
+                    let += node.args
+                if isinstance(node, ast.Call) and getattr(node.func, "attr", "") in ("get", "items", "keys", "values"):
+                    let.append(node.func.value)
+            for node in ast.walk(tree):
+                if isinstance(node, ast.Name) and node.id in kept and isinstance(node.ctx, ast.Load):
+                    self.assertIn(node, let, (name, node.lineno))
+
+    def test_what_a_loop_walks_is_not_changed_in_it(self):
+        changes = "append clear extend insert pop remove reverse setdefault update".split()
+        for name, tree in trees():
+            for loop in [node for node in ast.walk(tree) if isinstance(node, ast.For)]:
+                walked = {node.id for node in ast.walk(loop.iter) if isinstance(node, ast.Name)}
+                for node in [inner for row in loop.body for inner in ast.walk(row)]:
+                    if isinstance(node, ast.Call) and getattr(node.func, "attr", "") in changes:
+                        self.assertNotIn(getattr(node.func.value, "id", ""), walked, (name, node.lineno))
+                    if isinstance(node, ast.Subscript) and isinstance(node.ctx, ast.Store):
+                        self.assertNotIn(getattr(node.value, "id", ""), walked, (name, node.lineno))
+
+    def test_sets_are_not_kept(self):
+        for name, tree in trees():
+            let = []
+            for node in ast.walk(tree):
+                if isinstance(node, ast.Compare):
+                    let += [node.left] + node.comparators
+                if isinstance(node, ast.Call) and getattr(node.func, "id", "") in ("sorted", "len") and not node.keywords:
+                    let += node.args
+            for node in ast.walk(tree):
+                self.assertNotIsInstance(node, ast.Set, name)
+                if isinstance(node, ast.Call) and getattr(node.func, "id", "") in ("set", "frozenset"):
+                    self.assertIn(node, let, (name, node.lineno))
+
+    def test_names_that_are_not_used(self):
+        for name, tree in trees():
+            for node in ast.walk(tree):
+                told = getattr(node, "attr", getattr(node, "id", getattr(node, "arg", getattr(node, "name", ""))))
+                self.assertNotIn(told, UNUSED, (name, getattr(node, "lineno", 0)))
+                if not isinstance(node, ast.Attribute):
+                    self.assertNotIn(told, NO_NAMES, (name, getattr(node, "lineno", 0)))
+
+    def test_errors_that_are_taken(self):
+        own = {node.name for node in ast.parse((PACKAGE / "errors.py").read_text()).body if hasattr(node, "name")}
+        for name, tree in trees():
+            for node in ast.walk(tree):
+                if isinstance(node, ast.ExceptHandler):
+                    told = [part.id for part in ast.walk(node.type) if isinstance(part, ast.Name)]
+                    self.assertLessEqual(set(told), own | {"KeyError", "ZeroDivisionError", "StopIteration"}, name)
+                if isinstance(node, ast.Raise):
+                    self.assertIsInstance(node.exc, ast.Call, (name, node.lineno))
 
     def test_walked_at_once(self):
         walked = ["zip", "enumerate", "reversed", "range", "items", "keys", "values"]
